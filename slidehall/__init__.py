@@ -1,0 +1,1 @@
+"""Slidehall: trolleys pushed straight in a crowded store room."""
