@@ -79,25 +79,30 @@ def pushed(hall, stand, push):
     return behind
 
 
-def steps_let_by(hall, stand, held, n, direction):
-    many = 0
-    behind = stand
+def stands_along(hall, stand, held, n, direction):
+    # held is told by the caller, since it is the same for all first steps from one stand.
+    stands = []
+    last = stand
     going = movers_among(hall, stand, held, n, direction)
     while going is not None:
-        many += 1
-        behind = behind_step(behind, going, direction)
-        going = movers(hall, behind, n, direction)
-    return many
+        last = behind_step(last, going, direction)
+        stands.append(last)
+        going = movers(hall, last, n, direction)
+    return stands
+
+
+def pushes_with_ends(hall, stand):
+    held = holders(hall, stand)
+    pairs = []
+    for n in range(len(stand)):
+        for direction in range(4):
+            ends = stands_along(hall, stand, held, n, direction)
+            pairs.extend([((n, direction, many), end) for many, end in enumerate(ends, start=1)])
+    return pairs
 
 
 def all_pushes(hall, stand):
-    held = holders(hall, stand)
-    pushes = []
-    for n in range(len(stand)):
-        for direction in range(4):
-            most = steps_let_by(hall, stand, held, n, direction)
-            pushes.extend([(n, direction, many) for many in range(1, most + 1)])
-    return pushes
+    return [push for push, end in pushes_with_ends(hall, stand)]
 
 
 def gone_along(hall, stand, push):

@@ -1,79 +1,11 @@
-import random
 import unittest
 
+from plain import BLUNT, DIRECTIONS, EAST, MIGHTY, NORTH, SOME_HALLS, SOUTH, WEAK, WEST, plain_movers, plain_stands
 from slidehall.errors import Barred, HallError
 from slidehall.halls import is_hall, is_stand
 from slidehall.pushing import all_pushes, back_of, gone_along, movers, pushed
 
-EAST, NORTH, WEST, SOUTH = range(4)
-DIRECTIONS = (EAST, NORTH, WEST, SOUTH)
 OPPOSITE = (WEST, SOUTH, EAST, NORTH)
-WEAK = (1, 1, "any", 0)
-MIGHTY = (1, 1, "any", 1)
-BLUNT = (1, 1, "any", -1)
-SIDES = (1, 1, 1, 2, 2, 3)
-
-
-def cells_of(kind, place):
-    return {(place[0] + i, place[1] + j) for i in range(kind[0]) for j in range(kind[1])}
-
-
-def moved_cells(cells, direction):
-    return {(x + (1, 0, -1, 0)[direction], y + (0, 1, 0, -1)[direction]) for x, y in cells}
-
-
-def plain_movers(hall, stand, n, direction):
-    # By the words of the document alone, with sets of cells, growing the movers until none joins.
-    wide, high, walls, kinds = hall
-    cells = [cells_of(kind, place) for kind, place in zip(kinds, stand)]
-    going = {n}
-    while True:
-        aim = set().union(*[moved_cells(cells[m], direction) for m in going])
-        joined = going | {m for m in range(len(kinds)) if cells[m] & aim}
-        if joined == going:
-            break
-        going = joined
-    inside = all(0 <= x < wide and 0 <= y < high for x, y in aim)
-    ways = ("any", "row") if direction in (EAST, WEST) else ("any", "column")
-    can_go = all(kinds[m][2] in ways for m in going)
-    strength = kinds[n][3]
-    if strength == -1 or not can_go or not inside or aim & set(walls) or (len(going) > 1 and strength != 1):
-        return None
-    return tuple(sorted(going))
-
-
-def plain_stands(hall, stand, n, direction):
-    stands = []
-    going = plain_movers(hall, stand, n, direction)
-    while going is not None:
-        stand = tuple(
-            min(moved_cells({place}, direction)) if m in going else place for m, place in enumerate(stand)
-        )
-        stands.append(stand)
-        going = plain_movers(hall, stand, n, direction)
-    return stands
-
-
-def some_hall(chance):
-    # A hall with a stand, filled trolley by trolley wherever there is room, up to twelve of them.
-    wide, high = chance.randint(1, 9), chance.randint(1, 9)
-    cells = [(x, y) for x in range(wide) for y in range(high)]
-    chance.shuffle(cells)
-    walls = set(cells[:chance.randint(0, len(cells) // 9)])
-    taken, kinds, stand = set(walls), [], []
-    most = chance.randint(0, 12)
-    for cell in cells:
-        ways = chance.choice(("any", "any", "any", "any", "row", "column", "none"))
-        kind = (chance.choice(SIDES), chance.choice(SIDES), ways, chance.choice((1, 1, 0, -1)))
-        covers = cells_of(kind, cell)
-        if len(kinds) < most and covers <= set(cells) and not covers & taken:
-            taken |= covers
-            kinds.append(kind)
-            stand.append(cell)
-    return (wide, high, tuple(sorted(walls)), tuple(kinds)), tuple(stand)
-
-
-SOME_HALLS = [some_hall(random.Random(seed)) for seed in range(300)]
 
 
 class Case(unittest.TestCase):
