@@ -105,6 +105,14 @@ def all_pushes(hall, stand):
     return [push for push, end in pushes_with_ends(hall, stand)]
 
 
+def leads_out(hall, stands, known):
+    for stand in stands:
+        for push, end in pushes_with_ends(hall, stand):
+            if end not in known:
+                return True
+    return False
+
+
 def gone_along(hall, stand, push):
     behind = pushed(hall, stand, push)
     return tuple([n for n in range(len(stand)) if behind[n] != stand[n]])

@@ -3,6 +3,7 @@
 from slidehall.errors import TooMany
 from slidehall.pushing import pushes_with_ends
 
+# Each layer has a stand at least, so behind so many pushes, too, all are come to, or too many.
 MOST_STANDS = 2000
 
 
@@ -51,6 +52,5 @@ def layers(hall, stand, most):
 
 
 def come_to(hall, stand):
-    # Each layer has a stand at least, so behind so many pushes all are come to, or too many.
     found, ways = spread(hall, stand, MOST_STANDS)
     return sorted(ways)

@@ -1,6 +1,7 @@
 """A plain second reading of the document, slow and by its words, which the tests hold the program against."""
 
 import functools
+import itertools
 import random
 
 EAST, NORTH, WEST, SOUTH = range(4)
@@ -119,6 +120,17 @@ def plain_meets(hall, stand, goals):
     return all(cell in cells_of(hall[3][n], stand[n]) for n, cell in goals)
 
 
+def some_goals(chance, hall, stand, many):
+    # Half of them anywhere, half where a trolley comes to be at one of the stands.
+    cells = [(x, y) for x in range(hall[0]) for y in range(hall[1])]
+    end = chance.choice(plain_come_to(hall, stand))
+    goals = []
+    for k in range(many):
+        n = chance.randrange(len(hall[3]))
+        goals.append((n, chance.choice((end[n], chance.choice(cells)))))
+    return goals
+
+
 def paper_is_right(hall, stand, goals, by, paper, cost):
     # By the words, but for how the paper rises; cost is None where no row is told.
     costs = dict(paper)
@@ -133,6 +145,83 @@ def paper_is_right(hall, stand, goals, by, paper, cost):
     return True
 
 
+def deep_in(thing, depth, kind):
+    for k in range(depth):
+        thing = kind([thing])
+    return thing
+
+
+# What the checkers may be asked of in the place of anything.
+THINGS = (
+    None, True, False, 0, 1, -1, 2, 10 ** 30, "", "row", "none", "kept", "closed", "sides", (), [], (0,), [0], (0, 0),
+    [0, 0], (0, 0, 1), (True, False), ((0, 0),), [(0, 0)], ((),), [[]], ("row", [], (0, 0), []), ("none", []),
+    deep_in(0, 9, tuple), deep_in("a", 9, list),
+)
+
+
+def spoiled(thing):
+    # Everything that thing becomes when it, or one part of it, is another thing, is missing or is there twice.
+    yield from THINGS
+    if isinstance(thing, int):
+        yield from (thing + 1, thing - 1, -thing, str(thing), bool(thing), [thing], (thing,))
+    elif isinstance(thing, str):
+        yield from (thing + "s", thing[:-1], thing.upper(), [thing], (thing,), list(thing))
+    elif isinstance(thing, (list, tuple)):
+        kind = type(thing)
+        yield from (list(thing), tuple(thing), [thing], (thing,), kind(thing[::-1]))
+        for k, part in enumerate(thing):
+            yield thing[:k] + thing[k + 1:]
+            yield thing[:k] + thing[k:k + 1] * 2 + thing[k + 1:]
+            for other in spoiled(part):
+                yield thing[:k] + kind([other]) + thing[k + 1:]
+        yield from (thing + kind([other]) for other in THINGS)
+
+
+def is_made_of(thing, kind, many):
+    # A tuple of so many, or a list of any many, of what kind takes.
+    if many is None:
+        return type(thing) is list and all(kind(part) for part in thing)
+    return type(thing) is tuple and len(thing) == many and all(kind(part) for part in thing)
+
+
+def is_plain_number(thing):
+    return type(thing) is int
+
+
+def is_pair_of_numbers(thing):
+    return is_made_of(thing, is_plain_number, 2)
+
+
+def plain_is_stand(hall, thing):
+    if not is_made_of(thing, is_pair_of_numbers, len(hall[3])):
+        return False
+    cells = [cell for kind, place in zip(hall[3], thing) for cell in cells_of(kind, place)]
+    inside = {(x, y) for x in range(hall[0]) for y in range(hall[1])} - set(hall[2])
+    return len(cells) == len(set(cells)) and set(cells) <= inside
+
+
+def plain_shows_least(hall, stand, goals, by, told):
+    def is_pair(thing):
+        return type(thing) is tuple and len(thing) == 2 and plain_is_stand(hall, thing[0]) and is_pair_of_numbers(thing[1])
+
+    if type(told) is not tuple or len(told) not in (2, 4) or told[0] != {2: "none", 4: "row"}[len(told)]:
+        return False
+    if not is_made_of(told[-1], is_pair, None):
+        return False
+    if len(told) == 2:
+        return paper_is_right(hall, stand, goals, by, told[1], None)
+    word, pushes, cost, paper = told
+    if not is_made_of(pushes, lambda push: is_made_of(push, is_plain_number, 3), None) or not is_pair_of_numbers(cost):
+        return False
+    end, total = stand, (0, 0)
+    for push in pushes:
+        end = dict(plain_ends(hall, end)).get(push)
+        if end is None:
+            return False
+        total = sum_of(total, push_cost(push, by))
+    return plain_meets(hall, end, goals) and cost == total and paper_is_right(hall, stand, goals, by, paper, cost)
+
+
 def plain_reach(hall, stand, most):
     seen, waiting = {stand}, [stand]
     while waiting and len(seen) <= most:
@@ -140,6 +229,105 @@ def plain_reach(hall, stand, most):
         seen |= new
         waiting += sorted(new)
     return seen
+
+
+def plain_floor(hall):
+    return {(x, y) for x in range(hall[0]) for y in range(hall[1])} - set(hall[2])
+
+
+def plain_sides(hall, stand):
+    found = []
+    for kind, place in zip(hall[3], stand):
+        alone = hall[:3] + ((kind[:3] + (0,),),)
+        found.append(min(plain_reach(alone, (place,), 999))[0])
+    return tuple(found)
+
+
+def plain_lines(hall, stand):
+    found = []
+    for a, b in itertools.permutations(range(len(stand)), 2):
+        ways = {hall[3][a][2], hall[3][b][2]}
+        one, other = cells_of(hall[3][a], stand[a]), cells_of(hall[3][b], stand[b])
+        for word, along, across in (("row", 0, 1), ("column", 1, 0)):
+            if ways == {word} and {cell[across] for cell in one} & {cell[across] for cell in other}:
+                if max(cell[along] for cell in one) < min(cell[along] for cell in other):
+                    found.append((a, b))
+    return sorted(found)
+
+
+def plain_neighbours(floor, cell):
+    return sorted(floor & {min(moved_cells({cell}, direction)) for direction in DIRECTIONS})
+
+
+def plain_ring_order(hall, stand):
+    floor = plain_floor(hall)
+    if {kind[:2] for kind in hall[3]} - {(1, 1)} or len(floor) < 4:
+        return None
+    if any(len(plain_neighbours(floor, cell)) != 2 for cell in floor):
+        return None
+    ring = [min(floor), plain_neighbours(floor, min(floor))[0]]
+    while set(plain_neighbours(floor, ring[-1])) - set(ring):
+        ring += set(plain_neighbours(floor, ring[-1])) - set(ring)
+    if set(ring) != floor:
+        return None
+    order = sorted(range(len(stand)), key=lambda n: (ring.index(stand[n]) - ring.index(stand[0])) % len(ring))
+    return tuple(order)
+
+
+def plain_sign(hall, stand):
+    floor = plain_floor(hall)
+    free = floor - set(stand)
+    if {kind[:2] for kind in hall[3]} - {(1, 1)} or len(free) != 1:
+        return None
+    standing = {place: n for n, place in enumerate(stand)}
+    standing[min(free)] = len(stand)
+    pairs = sum(standing[a] > standing[b] for a, b in itertools.combinations(sorted(floor), 2))
+    return (pairs + sum(min(free))) % 2
+
+
+def plain_kept(hall, stand):
+    order = plain_ring_order(hall, stand)
+    return (plain_sides(hall, stand), tuple(plain_lines(hall, stand)), order, plain_sign(hall, stand))
+
+
+def plain_words(hall, one, other):
+    words = ("sides", "lines", "ring", "sign")
+    return [word for word, a, b in zip(words, plain_kept(hall, one), plain_kept(hall, other)) if a != b]
+
+
+def plain_shows_never(hall, one, other, told):
+    if type(told) is not tuple or len(told) != 2 or told[0] not in ("kept", "closed"):
+        return False
+    if told[0] == "kept":
+        return told[1] in plain_words(hall, one, other)
+    if not is_made_of(told[1], lambda thing: plain_is_stand(hall, thing), None):
+        return False
+    known = set(told[1])
+    left = any(end not in known for stand in known for push, end in plain_ends(hall, stand))
+    return one in known and other not in known and not left
+
+
+def plain_stand_pairs(chance, halls):
+    # Pairs of stands, of which the other is come to, or isn't for all kinds of reasons.
+    for hall, stand in halls:
+        ends = plain_come_to(hall, stand)
+        for k in range(3):
+            yield hall, chance.choice(ends), chance.choice(ends)
+        yield hall, chance.choice(ends), stand
+        for a, b in itertools.combinations(range(len(stand)), 2):
+            if hall[3][a][:2] == hall[3][b][:2]:
+                places = list(chance.choice(ends))
+                places[a], places[b] = places[b], places[a]
+                yield hall, stand, tuple(places)
+
+
+def filled(chance, wide, high, walls, free):
+    # A hall full of single trolleys of all ways and strengths, but for so many cells.
+    floor = sorted({(x, y) for x in range(wide) for y in range(high)} - set(walls))
+    stand = tuple(chance.sample(floor, max(len(floor) - free, 0)))
+    kinds = [(1, 1, chance.choice(("any", "any", "any", "row", "column", "none")), chance.choice((1, 1, 0, -1)))
+             for place in stand]
+    return (wide, high, tuple(walls), tuple(kinds)), stand
 
 
 def small_halls(many):

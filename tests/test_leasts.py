@@ -4,7 +4,7 @@ import unittest
 
 from plain import (
     BLUNT, EAST, MIGHTY, NORTH, ROOMS, ROOMS_STAND, SMALL_HALLS, SOUTH, WEAK, WEST, paper_is_right, plain_come_to,
-    plain_costs, plain_meets, push_cost, shelf_hall, sum_of, walled,
+    plain_costs, plain_meets, push_cost, shelf_hall, some_goals, sum_of, walled,
 )
 from slidehall.errors import TooMany
 from slidehall.leasts import least
@@ -21,17 +21,6 @@ STAIRS = (4, 6, walled([
 ]), (WEAK,))
 STAIRS_STAND = ((0, 0),)
 LANE, LANE_STAND = (5, 1, (), (MIGHTY, BLUNT)), ((0, 0), (2, 0))
-
-
-def some_goals(chance, hall, stand, many):
-    # Half of them anywhere, half where a trolley comes to be at one of the stands.
-    cells = [(x, y) for x in range(hall[0]) for y in range(hall[1])]
-    end = chance.choice(plain_come_to(hall, stand))
-    goals = []
-    for k in range(many):
-        n = chance.randrange(len(hall[3]))
-        goals.append((n, chance.choice((end[n], chance.choice(cells)))))
-    return goals
 
 
 def maze(chance):
