@@ -330,20 +330,20 @@ def filled(chance, wide, high, walls, free):
     return (wide, high, tuple(walls), tuple(kinds)), stand
 
 
-def small_halls(many):
-    # Few cells and few trolleys, so that all stands can be gone through, but not so few that nothing happens.
+def halls_that_spread(many, most, make):
+    # Few stands are come to, so that all can be gone through, but not so few that nothing happens.
     halls = []
     seed = 0
     while len(halls) < many:
         seed += 1
-        hall, stand = some_hall(random.Random(seed), 5, 5)
-        if len(stand) > 1 and 5 < len(plain_reach(hall, stand, 150)) <= 150:
+        hall, stand = make(random.Random(seed))
+        if len(stand) > 1 and 5 < len(plain_reach(hall, stand, most)) <= most:
             halls.append((hall, stand))
     return halls
 
 
 SOME_HALLS = [some_hall(random.Random(seed), 9, 12) for seed in range(300)]
-SMALL_HALLS = small_halls(120)
+SMALL_HALLS = halls_that_spread(120, 150, lambda chance: some_hall(chance, 5, 5))
 
 
 def shelf_hall(positions):
@@ -371,3 +371,100 @@ ROOMS = (9, 9, walled([
     "........#",
 ]), (WEAK, WEAK, WEAK))
 ROOMS_STAND = ((0, 4), (8, 7), (0, 0))
+
+
+def plain_dead(hall, stand, goals):
+    return [one for one in plain_come_to(hall, stand)
+            if not any(plain_meets(hall, end, goals) for end in plain_come_to(hall, one))]
+
+
+def plain_no_return(hall, stand):
+    return sorted(push for push, end in plain_ends(hall, stand) if stand not in plain_come_to(hall, end))
+
+
+def plain_reach_of(hall, stand, n):
+    kind, floor = hall[3][n], plain_floor(hall)
+    steps = {"any": DIRECTIONS, "row": (EAST, WEST), "column": (NORTH, SOUTH), "none": ()}[kind[2]]
+    places, before = {stand[n]}, None
+    while before != places:
+        before = set(places)
+        for direction in steps:
+            places |= {place for place in moved_cells(before, direction) if cells_of(kind, place) <= floor}
+    return sorted(set().union(*[cells_of(kind, place) for place in places]))
+
+
+def plain_parts(hall, stand):
+    # Everybody takes the least number that is met in his reach, over and over, until nobody takes another.
+    reaches = [set(plain_reach_of(hall, stand, n)) for n in range(len(stand))]
+    least, before = list(range(len(stand))), None
+    while before != least:
+        before = list(least)
+        least = [min(before[m] for m in range(len(stand)) if reaches[n] & reaches[m]) for n in range(len(stand))]
+    return [[n for n in range(len(stand)) if least[n] == first] for first in sorted(set(least))]
+
+
+def plain_part_of(hall, stand, numbers):
+    return hall[:3] + (tuple(hall[3][n] for n in numbers),), tuple(stand[n] for n in numbers)
+
+
+def plain_asked_parts(hall, stand, goals):
+    # For each part that has a goal: its numbers, its hall, its stand and its goals.
+    for numbers in plain_parts(hall, stand):
+        own = [({n: k for k, n in enumerate(numbers)}[n], cell) for n, cell in goals if n in numbers]
+        if own:
+            yield (numbers,) + plain_part_of(hall, stand, numbers) + (own,)
+
+
+def plain_shows_by_parts(hall, stand, goals, by, told):
+    asked = list(plain_asked_parts(hall, stand, goals))
+    if type(told) is not tuple or len(told) not in (3, 4) or told[0] != {3: "none", 4: "row"}[len(told)]:
+        return False
+    if len(told) == 3:
+        return is_made_of(told[1], is_plain_number, None) and any(
+            told[1] == numbers and plain_shows_least(alone, its, own, by, ("none", told[2]))
+            for numbers, alone, its, own in asked)
+    word, pushes, cost, rows = told
+    if not is_made_of(pushes, lambda push: is_made_of(push, is_plain_number, 3), None) or not is_pair_of_numbers(cost):
+        return False
+    if type(rows) is not list or len(rows) != len(asked):
+        return False
+    together, total = [], (0, 0)
+    for row, (numbers, alone, its, own) in zip(rows, asked):
+        if type(row) is not tuple or len(row) != 2 or not is_made_of(row[0], is_plain_number, None):
+            return False
+        if row[0] != numbers or not plain_shows_least(alone, its, own, by, row[1]) or row[1][0] != "row":
+            return False
+        together += [(numbers[n], direction, many) for n, direction, many in row[1][1]]
+        total = sum_of(total, row[1][2])
+    return pushes == together and cost == total
+
+
+def beside(chance, one, other):
+    # Both halls, with a wall between them from the south to the north, and their trolleys numbered in any order.
+    (wide, high, walls, kinds), stand = one
+    further = other[0]
+    walls = set(walls) | {(x + wide + 1, y) for x, y in further[2]} | {(wide, y) for y in range(9)}
+    walls |= {(x, y) for x in range(wide) for y in range(high, further[1])}
+    walls |= {(x + wide + 1, y) for x in range(further[0]) for y in range(further[1], high)}
+    high = max(high, further[1])
+    trolleys = list(zip(kinds, stand)) + [(kind, (x + wide + 1, y)) for kind, (x, y) in zip(further[3], other[1])]
+    chance.shuffle(trolleys)
+    walls = tuple(sorted(cell for cell in walls if cell[1] < high))
+    hall = (wide + 1 + further[0], high, walls, tuple(kind for kind, place in trolleys))
+    return hall, tuple(place for kind, place in trolleys)
+
+
+def parted_hall(chance):
+    return beside(chance, some_hall(chance, 4, 3), some_hall(chance, 4, 3))
+
+
+def one_way_hall(chance):
+    # A strong one beside a dull one, so that much can't be made good.
+    (wide, high, walls, kinds), stand = some_hall(chance, 5, 3)
+    strengths = (1, -1, chance.choice((-1, 0, 1)))
+    kinds = tuple(kind[:2] + ("any", strong) for kind, strong in zip(kinds, strengths))
+    return (wide, high, walls, kinds), stand
+
+
+PARTED_HALLS = halls_that_spread(80, 150, parted_hall)
+ONE_WAY_HALLS = halls_that_spread(60, 120, one_way_hall)

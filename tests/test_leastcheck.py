@@ -3,6 +3,7 @@ import itertools
 import random
 import unittest
 
+from checking import CheckerCase
 from plain import (
     BLUNT, EAST, MIGHTY, ROOMS, ROOMS_STAND, SMALL_HALLS, SOUTH, THINGS, WEAK, WEST, plain_shows_least, shelf_hall,
     some_goals, spoiled,
@@ -21,20 +22,9 @@ def with_cost(paper, number, cost):
     return paper[:number] + [(paper[number][0], cost)] + paper[number + 1:]
 
 
-class Case(unittest.TestCase):
-    def takes(self, hall, stand, goals, by, told):
-        self.assertIs(shows_least(hall, stand, goals, by, told), True, told)
-        self.assertIs(plain_shows_least(hall, stand, goals, by, told), True, told)
-
-    def takes_not(self, hall, stand, goals, by, told):
-        self.assertIs(shows_least(hall, stand, goals, by, told), False, told)
-        self.assertIs(plain_shows_least(hall, stand, goals, by, told), False, told)
-
-    def answers(self, hall, stand, goals, by, told):
-        # By the second reading; gives back which.
-        expected = plain_shows_least(hall, stand, goals, by, told)
-        self.assertIs(shows_least(hall, stand, goals, by, told), expected, told)
-        return expected
+class Case(CheckerCase):
+    def ask(self, *handed):
+        return shows_least(*handed), plain_shows_least(*handed)
 
 
 class TestTaken(Case):

@@ -2,6 +2,7 @@ import copy
 import random
 import unittest
 
+from checking import CheckerCase
 from plain import (
     BLUNT, MIGHTY, SMALL_HALLS, THINGS, WEAK, plain_shows_never, plain_stand_pairs, spoiled, walled,
 )
@@ -15,14 +16,9 @@ LANE, LANE_STAND, LANE_SWAPPED = (4, 1, (), (WEAK, WEAK)), ((0, 0), (1, 0)), ((1
 BELT, BELT_STAND, BELT_END = (4, 1, (), (MIGHTY, BLUNT)), ((0, 0), (2, 0)), ((0, 0), (3, 0))
 
 
-class Case(unittest.TestCase):
-    def takes(self, hall, one, other, told):
-        self.assertIs(shows_never(hall, one, other, told), True, told)
-        self.assertIs(plain_shows_never(hall, one, other, told), True, told)
-
-    def takes_not(self, hall, one, other, told):
-        self.assertIs(shows_never(hall, one, other, told), False, told)
-        self.assertIs(plain_shows_never(hall, one, other, told), False, told)
+class Case(CheckerCase):
+    def ask(self, *handed):
+        return shows_never(*handed), plain_shows_never(*handed)
 
 
 class TestKept(Case):
