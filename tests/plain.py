@@ -202,7 +202,9 @@ def plain_is_stand(hall, thing):
 
 def plain_shows_least(hall, stand, goals, by, told):
     def is_pair(thing):
-        return type(thing) is tuple and len(thing) == 2 and plain_is_stand(hall, thing[0]) and is_pair_of_numbers(thing[1])
+        if type(thing) is not tuple or len(thing) != 2:
+            return False
+        return plain_is_stand(hall, thing[0]) and is_pair_of_numbers(thing[1])
 
     if type(told) is not tuple or len(told) not in (2, 4) or told[0] != {2: "none", 4: "row"}[len(told)]:
         return False

@@ -277,7 +277,8 @@ class TestLeastByParts(Case):
     def test_too_many_ahead_of_none(self):
         for goals in ([(5, (0, 0)), (0, (0, 0))], [(0, (0, 0)), (0, (1, 1)), (5, (7, 0))], [(4, (7, 7))]):
             self.assertRaises(TooMany, least_by_parts, CROWD, CROWD_STAND, goals, "steps")
-        self.assertRaises(TooMany, least_by_parts, CROWD_BEHIND, CROWD_BEHIND_STAND, [(0, (8, 3)), (2, (1, 1))], "steps")
+        goals = [(0, (8, 3)), (2, (1, 1))]
+        self.assertRaises(TooMany, least_by_parts, CROWD_BEHIND, CROWD_BEHIND_STAND, goals, "steps")
 
     def test_costs_what_the_whole_costs(self):
         chance = random.Random(12)
